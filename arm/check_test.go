@@ -91,11 +91,31 @@ func TestP11_2ExamplesWithAllModes(t *testing.T) {
 		allowedIf(t, "loads, "+what, !inLoads, loads(r0, w0, r1, w1), 2, 3, 4, 5)
 		allowedIf(t, "loads, ctrl, "+what, false, withCtrl(loads(r0, w0, r1, w1), 2, 3, 4, 5), 2, 3, 4, 5)
 		allowedIf(t, "loads, data, "+what, r1 == P && w1 == P, withData(loads(r0, w0, r1, w1), 2, 3), 2, 3, 4, 5)
+		allowedIf(t, "loads, data in the other thread, "+what, r0 == P && w0 == P, withData(loads(r0, w0, r1, w1), 4, 5), 2, 3, 4, 5)
 		holdCheck(t, "older, "+what, older(w0, r0, r1), arm.Internal, 2, 3, 4)
 		holdCheck(t, "torn, "+what, tornPair(r0, w0, w1), arm.Atomicity, 2, 3)
 		for _, w2 := range writeModes {
 			kept = r0 != P && (w1 == L || w2 == L)
 			allowedIf(t, fmt.Sprint("overwritten, ", what, " and ", w2), !kept, overwritten(w0, w1, w2, r0, r1), 2, 4, 5, 6)
+		}
+	}
+	for i := range 648 {
+		g := handedOn(readModes[i%3])
+		for k, at := range []int{8, 5, 3} {
+			g.Events[at].Mode = readModes[i/[]int{3, 9, 27}[k]%3]
+		}
+		for k, at := range []int{2, 4, 6} {
+			g.Events[at].Mode = writeModes[i/[]int{81, 162, 324}[k]%2]
+		}
+		what := fmt.Sprint("handed on, case ", i)
+		mode := func(at int) int { return g.Events[at].Mode }
+		switch { // the shortest way from the pair to the last read
+		case mode(5) != P:
+			holdCheck(t, what, g, arm.External, 2, 3, 4, 5, 8)
+		case mode(6) == L && mode(8) == A:
+			holdCheck(t, what, g, arm.External, 2, 3, 4, 6, 8)
+		default:
+			allowedIf(t, what, mode(7) == P, g, 2, 3, 4, 6, 7, 8)
 		}
 	}
 	for _, f := range fenceModes {
