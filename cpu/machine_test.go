@@ -196,6 +196,28 @@ func TestP16_1Clone(t *testing.T) {
 	}
 }
 
+// Clones made behind any number of outputs and of events: each keeps its own.
+func TestP16_1ClonesKeepTheirOwn(t *testing.T) {
+	text := base + "l: ldr x2, [x1]\nsvc #2\nb l"
+	for n := range 20 {
+		m, as := machine(t, text), machine(t, text)
+		for v := range uint64(n) {
+			fed(t, text, m, v, 0)
+			fed(t, text, as, v, 0)
+		}
+		c := m.Clone()
+		fed(t, text, m, 70, 0)
+		fed(t, text, c, 80, 0)
+		fed(t, text, m, 71, 0)
+		fed(t, text, as, 70, 0, 71, 0)
+		holdRun(t, "P16.1: a machine whose clone goes on", m.Run(), as.Run())
+		r := c.Run()
+		if len(r.Outs) != n+1 || r.Outs[n] != 80 || len(r.Events) != n+1 || r.Events[n].Val != 80 {
+			t.Errorf("P16.1: a clone behind %d outputs: %+v", n, r)
+		}
+	}
+}
+
 // A clone made between the load and the store of one instruction, both ways.
 func TestP16_1CloneInASingle(t *testing.T) {
 	for _, op := range []string{"swpal x2, x3, [x1]", "ldaddal x2, x3, [x1]", "casal x3, x2, [x1]"} {

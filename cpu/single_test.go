@@ -117,17 +117,23 @@ func holdThree(t *testing.T, what string, m interface{ Reg(n int) uint64 }, want
 
 // Between the load and the store no fault may come, nor an end, whatever there is behind the instruction.
 func TestP16_3SinglesAtTheEnd(t *testing.T) {
-	for _, text := range []string{"swp x3, x1, [x1]", "ldaddal x3, x1, [x1]", "casl x1, x3, [x1]"} { // what was loaded has no cell
-		m := machine(t, base+text)
-		fed(t, text, m, api.Base)
-		told(t, text, m, one(m.Next()))
-		if w := m.Next(); w.What != api.WantStore || w.Loc != 0 {
-			t.Fatalf("P16.2: %s wants %+v", text, w)
+	for _, c := range []struct {
+		text string
+		want api.Want
+	}{
+		{"swp x3, x1, [x1]", wantStore(0, 0, api.Plain)}, {"ldaddal x3, x1, [x1]", wantStore(0, 99, api.Release)}, {"ldadd x1, x1, [x1]", wantStore(0, api.Base+99, api.Plain)}, {"casl x3, x1, [x1]", wantStore(0, api.Base, api.Release)},
+	} {
+		v := uint64(99)
+		if c.text == "casl x3, x1, [x1]" { // x3 is 0
+			v = 0
 		}
-		fed(t, text, m, 0)
-		told(t, text, m, wantFault)
+		m := machine(t, base+c.text)
+		fed(t, c.text, m, v)
+		told(t, c.text, m, one(c.want))
+		fed(t, c.text, m, 0)
+		told(t, c.text, m, wantFault)
 		if r := m.Run(); len(r.Events) != 2 || !slices.Equal(r.Rmw, pairs(0, 1)) {
-			t.Errorf("P16.4: %s: %+v", text, r)
+			t.Errorf("P16.4: %s: %+v", c.text, r)
 		}
 	}
 	m := machine(t, base+counted(api.MaxFuel-1)+"swp x3, x4, [x1]\n"+counted(api.MaxFuel)+"hlt #0")
